@@ -113,7 +113,12 @@ func TestReceiveHello(t *testing.T) {
 		{"Init of another circuit", []api.TLV{areas, {Type: 240, Value: seenOf(api.Init, 9, 1, 1)}}, adj.Adjacency{State: api.Down}, api.OK},
 		{"the first of two", []api.TLV{{Type: 240, Value: seenOf(api.Init, 9, 1, 0)}, {Type: 240, Value: seen(api.Down, 9)}}, adj.Adjacency{State: api.Up, Level: 2}, api.OK},
 		{"what counts in an LSP alone", []api.TLV{{Type: 22, Value: []byte{1}}, areas, {Type: 229, Value: []byte{1}}, {Type: 135, Value: []byte{1}}}, adj.Adjacency{State: api.Init, Level: 3}, api.OK},
-		{"the second of two isn't so", []api.TLV{areas, {Type: 240, Value: seenOf(api.Init, 9, 1, 0)}, {Type: 240, Value: []byte{7}}}, adj.Adjacency{State: api.Up, Level: 3}, api.OK},
+		{"the first of three", []api.TLV{areas, {Type: 240, Value: seen(api.Down, 9)}, {Type: 240, Value: seenOf(api.Init, 9, 3, 0)}, {Type: 240, Value: seenOf(api.Init, 9, 1, 0)}}, adj.Adjacency{State: api.Init, Level: 3}, api.OK},
+		{"the second of two too short", []api.TLV{areas, {Type: 240, Value: seenOf(api.Init, 9, 1, 0)}, {Type: 240, Value: []byte{1}}}, adj.Adjacency{State: api.Down}, api.ErrForm},
+		{"the second of two of no bytes", []api.TLV{areas, {Type: 240, Value: seenOf(api.Init, 9, 1, 0)}, {Type: 240}}, adj.Adjacency{State: api.Down}, api.ErrForm},
+		{"the second of two in a state of 3", []api.TLV{{Type: 240, Value: seen(api.Down, 9)}, areas, {Type: 240, Value: seen(3, 9)}}, adj.Adjacency{State: api.Down}, api.ErrForm},
+		{"the second of two numbered above 255", []api.TLV{{Type: 240, Value: seen(api.Down, 9)}, {Type: 240, Value: append(seenOf(1, 0, 1, 0)[:11], 0, 0, 1, 0)}}, adj.Adjacency{State: api.Down}, api.ErrForm},
+		{"the third of three too long", []api.TLV{{Type: 240, Value: seen(api.Down, 9)}, {Type: 240, Value: seen(api.Down, 9)}, {Type: 77}, {Type: 240, Value: append(seenOf(1, 0, 1, 0), 0)}}, adj.Adjacency{State: api.Down}, api.ErrForm},
 		{"four areas", []api.TLV{{Type: 1, Value: []byte{1, 1, 1, 1, 1, 1}}, {Type: 1, Value: []byte{1, 1}}}, adj.Adjacency{State: api.Down}, api.ErrLong},
 		{"an area that ends too early", []api.TLV{{Type: 1, Value: []byte{2, 1}}}, adj.Adjacency{State: api.Down}, api.ErrForm},
 		{"an area of no bytes", []api.TLV{areas, {Type: 1, Value: []byte{0}}}, adj.Adjacency{State: api.Down}, api.ErrForm},
@@ -188,6 +193,8 @@ func TestReceiveHelloErrors(t *testing.T) {
 		{func(p *pdu.PDU) { p.Source.Sys = sys(1) }, api.ErrExists},
 		{func(p *pdu.PDU) { p.TLVs = append(p.TLVs, api.TLV{Type: 1, Value: []byte{1, 1, 1, 1, 1, 1}}) }, api.ErrLong},
 		{func(p *pdu.PDU) { p.TLVs[1].Value[0] = 3 }, api.ErrForm},
+		{func(p *pdu.PDU) { p.TLVs = append(p.TLVs, api.TLV{Type: 240}) }, api.ErrForm},
+		{func(p *pdu.PDU) { p.Hold = 0; p.TLVs = append(p.TLVs, api.TLV{Type: 240, Value: seen(3, 0)}) }, api.ErrForm},
 		{func(p *pdu.PDU) { p.Hold = 0; p.TLVs[1].Value[0] = 3 }, api.ErrForm}, // the first that applies
 		{func(p *pdu.PDU) { p.TLVs[0].Value[0] = 3; p.Source.Sys = sys(1) }, api.ErrForm},
 	} {

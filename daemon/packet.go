@@ -112,7 +112,7 @@ func readHello(p pdu.PDU) (adj.Hello, api.Errno) {
 		Areas:  areas,
 		State:  api.Down,
 	}
-	if values := tlv.Of(p.TLVs, seenType); len(values) > 0 && !getSeen(&h, values[0]) {
+	if !getFirstSeen(&h, tlv.Of(p.TLVs, seenType)) {
 		return adj.Hello{}, api.ErrForm
 	}
 	return h, api.OK
@@ -123,6 +123,21 @@ func getAreas(list []api.TLV) ([][]byte, api.Errno) {
 	areas := slices.DeleteFunc(slices.Clone(list), func(t api.TLV) bool { return t.Type != areasType })
 	told, e := lsp.Read(pdu.PDU{Kind: state1, TLVs: areas})
 	return told.Areas, e
+}
+
+// getFirstSeen sets what h tells that its side sees, by the first of the values, if there is one; false: one of them, be it the first or not, isn't of the form.
+func getFirstSeen(h *adj.Hello, values [][]byte) bool {
+	plain := *h
+	for i, value := range values {
+		told := plain
+		if !getSeen(&told, value) {
+			return false
+		}
+		if i == 0 {
+			*h = told
+		}
+	}
+	return true
 }
 
 // getSeen sets what h tells that its side sees; false: value isn't of the form.
