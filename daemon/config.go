@@ -1,7 +1,6 @@
 package daemon
 
 import (
-	"bytes"
 	"slices"
 
 	"waymark/api"
@@ -77,20 +76,4 @@ func hasTwice(owns []api.Own) bool {
 		known[o.Prefix] = struct{}{}
 	}
 	return len(known) < len(owns)
-}
-
-// copyConfig answers c in memory of its own.
-func copyConfig(c api.Config) api.Config {
-	c.Areas = slices.Clone(c.Areas)
-	for i, area := range c.Areas {
-		c.Areas[i] = bytes.Clone(area)
-	}
-	c.Links = slices.Clone(c.Links)
-	c.Owns = slices.Clone(c.Owns)
-	c.Leak = slices.Clone(c.Leak)
-	c.Keys = slices.Clone(c.Keys)
-	for i, k := range c.Keys {
-		c.Keys[i].Secret = bytes.Clone(k.Secret)
-	}
-	return c
 }
